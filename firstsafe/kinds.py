@@ -1,0 +1,34 @@
+"""Which kind of value something is. Nothing here raises an error, whatever is asked about."""
+
+
+def is_number(thing):
+    """True for an int that is neither True nor False."""
+    return isinstance(thing, int) and not isinstance(thing, bool)
+
+
+def is_between(thing, least, most):
+    """True for a number from `least` to `most`."""
+    return is_number(thing) and least <= thing <= most
+
+
+def is_pair(thing):
+    """True for a tuple of two items."""
+    return isinstance(thing, tuple) and len(thing) == 2
+
+
+def tuple_fault(thing, least, most, fits):
+    """None for a tuple of `least` to `most` items that all fit.
+
+    Otherwise -1 if it is no tuple of so many items, or the index of the first item that does not fit.
+    """
+    if not isinstance(thing, tuple) or not least <= len(thing) <= most:
+        return -1
+    for index, item in enumerate(thing):
+        if not fits(item):
+            return index
+    return None
+
+
+def is_tuple_of(thing, least, most, fits):
+    """True for a tuple of `least` to `most` items that all fit."""
+    return tuple_fault(thing, least, most, fits) is None
