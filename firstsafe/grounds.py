@@ -1,14 +1,14 @@
 """Grounds, and the batches and lengths of a ground ([1.2], [1.3])."""
 
 from firstsafe.errors import BadBatch, BadBatches, BadGround, BadLengths
-from firstsafe.kinds import is_between, is_tuple_of, tuple_fault
+from firstsafe.kinds import number_between, tuple_fault, tuple_fits
 from firstsafe.limits import MOST_BATCHES, MOST_CELLS, MOST_NUMBERS, MOST_SHELVES
 from firstsafe.primes import is_prime
 
 
-def are_points(p, thing):
+def points_fit(p, thing):
     """True for a tuple of 1 to 8 different numbers from 0 to p."""
-    return is_tuple_of(thing, 1, MOST_SHELVES, lambda point: is_between(point, 0, p)) and (
+    return tuple_fits(thing, 1, MOST_SHELVES, lambda point: number_between(point, 0, p)) and (
         len(set(thing)) == len(thing))
 
 
@@ -18,9 +18,9 @@ def ground_fault(thing):
         return -1
     if not is_prime(thing[0]):
         return 0
-    if not is_between(thing[1], 1, MOST_NUMBERS):
+    if not number_between(thing[1], 1, MOST_NUMBERS):
         return 1
-    if not are_points(thing[0], thing[2]):
+    if not points_fit(thing[0], thing[2]):
         return 2
     return None
 
@@ -46,7 +46,7 @@ def shelves(ground):
 def batch_fault(ground, thing):
     """What BadBatch is to tell of the thing, None for a batch of the ground."""
     p, k, _ = ground
-    return tuple_fault(thing, k, k, lambda number: is_between(number, 0, p - 1))
+    return tuple_fault(thing, k, k, lambda number: number_between(number, 0, p - 1))
 
 
 def is_batch(ground, thing):
@@ -74,7 +74,7 @@ def made_batches(ground, thing):
 def made_lengths(ground, thing):
     """The tuple of one length for each shelf, or BadLengths."""
     many = shelves(ground)
-    fault = tuple_fault(thing, many, many, lambda length: is_between(length, 0, MOST_CELLS))
+    fault = tuple_fault(thing, many, many, lambda length: number_between(length, 0, MOST_CELLS))
     if fault is not None:
         raise BadLengths(fault)
     return thing

@@ -6,7 +6,7 @@ def is_number(thing):
     return isinstance(thing, int) and not isinstance(thing, bool)
 
 
-def is_between(thing, least, most):
+def number_between(thing, least, most):
     """True for a number from `least` to `most`."""
     return is_number(thing) and least <= thing <= most
 
@@ -29,6 +29,6 @@ def tuple_fault(thing, least, most, fits):
     return None
 
 
-def is_tuple_of(thing, least, most, fits):
+def tuple_fits(thing, least, most, fits):
     """True for a tuple of `least` to `most` items that all fit."""
     return tuple_fault(thing, least, most, fits) is None

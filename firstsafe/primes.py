@@ -1,13 +1,13 @@
 """Primes, and numbers modulo a prime ([1])."""
 
 from firstsafe.errors import NoInverse
-from firstsafe.kinds import is_between
+from firstsafe.kinds import number_between
 from firstsafe.limits import MOST_PRIME
 
 
 def is_prime(n):
     """True if `n` is a prime number from 2 to 65521; a judge."""
-    if not is_between(n, 2, MOST_PRIME):
+    if not number_between(n, 2, MOST_PRIME):
         return False
     divisor = 2
     while divisor * divisor <= n:

@@ -3,14 +3,14 @@
 from firstsafe.errors import BadPlace, BadShelf
 from firstsafe.forms import value, value_weights
 from firstsafe.grounds import made_batch, made_ground
-from firstsafe.kinds import is_between
+from firstsafe.kinds import number_between
 from firstsafe.limits import MOST_CELLS
 
 
 def point_of(ground, shelf):
     """The point of the shelf, or BadShelf."""
     points = ground[2]
-    if not is_between(shelf, 0, len(points) - 1):
+    if not number_between(shelf, 0, len(points) - 1):
         raise BadShelf(shelf)
     return points[shelf]
 
@@ -19,7 +19,7 @@ def cell(ground, batch, shelf, j):
     """The cell j of the batch on the shelf."""
     made_batch(ground, batch)
     point = point_of(ground, shelf)
-    if not is_between(j, 0, MOST_CELLS - 1):
+    if not number_between(j, 0, MOST_CELLS - 1):
         raise BadPlace(j)
     return value(ground[0], batch, point, j)
 
@@ -28,7 +28,7 @@ def row(ground, batch, shelf, many):
     """The first `many` cells of the batch on the shelf."""
     made_batch(ground, batch)
     point = point_of(ground, shelf)
-    if not is_between(many, 0, MOST_CELLS):
+    if not number_between(many, 0, MOST_CELLS):
         raise BadPlace(many)
     return tuple([value(ground[0], batch, point, j) for j in range(many)])
 
@@ -37,6 +37,6 @@ def equation(ground, shelf, j):
     """How much each number of a batch counts in the cell j on the shelf."""
     p, k, _ = made_ground(ground)
     point = point_of(ground, shelf)
-    if not is_between(j, 0, MOST_CELLS - 1):
+    if not number_between(j, 0, MOST_CELLS - 1):
         raise BadPlace(j)
     return value_weights(p, k, point, j)

@@ -41,6 +41,7 @@ BARRED_WORDS = re.compile(
     r"\b(typing|typing_extensions|enum|Enum|IntEnum|StrEnum|Flag|IntFlag|Generic|Protocol|ABC|ABCMeta|namedtuple"
     r"|NamedTuple|TypedDict|TYPE_CHECKING|abstractmethod)\b|dataclass|overload|contextmanager|_wall|_WallAttr")
 CALLED_WITH_GENERATORS = {"list", "tuple", "dict", "sorted", "sum", "min", "max", "any", "all"}
+ITERATED = {"zip", "enumerate", "reversed", "range", "map", "combinations", "permutations"}
 NOT_ALLOWED = (ast.Global, ast.AsyncFunctionDef, ast.AsyncFor, ast.AsyncWith, ast.Await, ast.Div, ast.AnnAssign,
                ast.MatMult, ast.ImportFrom, ast.Import)
 
@@ -60,23 +61,24 @@ def functions_of(tree):
     return [node for node in ast.walk(tree) if isinstance(node, ast.FunctionDef)]
 
 
+def methods_of(tree):
+    """The methods of all classes."""
+    return [part for node in ast.walk(tree) if isinstance(node, ast.ClassDef)
+            for part in node.body if isinstance(part, ast.FunctionDef)]
+
+
 def bound_names(tree):
     """All names that the file binds, attributes and methods excepted."""
+    methods = methods_of(tree)
     for node in ast.walk(tree):
         if isinstance(node, ast.Name) and not isinstance(node.ctx, ast.Load):
             yield node.id
-        elif isinstance(node, (ast.FunctionDef, ast.ClassDef)):
+        elif isinstance(node, (ast.FunctionDef, ast.ClassDef)) and node not in methods:
             yield node.name
         elif isinstance(node, ast.arg):
             yield node.arg
         elif isinstance(node, ast.ExceptHandler) and node.name:
             yield node.name
-
-
-def method_names(tree):
-    """The names of the methods of all classes."""
-    return {part.name for node in ast.walk(tree) if isinstance(node, ast.ClassDef)
-            for part in node.body if isinstance(part, ast.FunctionDef)}
 
 
 def imports_of(tree):
@@ -171,9 +173,9 @@ class Language(unittest.TestCase):
 
     def test_names(self):
         """L8, L12, L15, L17, L25."""
-        methods = set().union(*(method_names(tree) for _, tree in TREES))
+        methods = {node.name for _, tree in TREES for node in methods_of(tree)}
         for file, tree in TREES:
-            bound = set(bound_names(tree)) - method_names(tree)
+            bound = set(bound_names(tree))
             for name in bound:
                 self.assertNotIn(name, PYTHONS_OWN | BARRED_NAMES)
                 self.assertRegex(name, r"^_?[A-Za-z]?[A-Za-z0-9_]*$")
@@ -198,8 +200,11 @@ class Language(unittest.TestCase):
                     self.assertIsInstance(call, ast.Call)
                     name = call.func.attr if isinstance(call.func, ast.Attribute) else call.func.id
                     self.assertIn(name, CALLED_WITH_GENERATORS | {"join"})
-                if isinstance(node, ast.Call) and getattr(node.func, "id", "") in ("zip", "enumerate", "reversed"):
-                    self.assertIsInstance(above[node], (ast.For, ast.comprehension, ast.Call))
+                if isinstance(node, ast.Call) and getattr(node.func, "id", "") in ITERATED:
+                    call = above[node]
+                    self.assertIsInstance(call, (ast.For, ast.comprehension, ast.Call))
+                    if isinstance(call, ast.Call):
+                        self.assertIn(call.func.id, CALLED_WITH_GENERATORS | {"zip", "enumerate"})
 
     def test_no_state_at_module_level(self):
         """L15: what stands there is plain and is not a list or a dict within another one."""
