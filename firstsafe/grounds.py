@@ -1,15 +1,14 @@
 """Grounds, and the batches and lengths of a ground ([1.2], [1.3])."""
 
 from firstsafe.errors import BadBatch, BadBatches, BadGround, BadLengths
-from firstsafe.kinds import number_between, tuple_fault, tuple_fits
+from firstsafe.kinds import number_between, numbers_fit, tuple_fault
 from firstsafe.limits import MOST_BATCHES, MOST_CELLS, MOST_NUMBERS, MOST_SHELVES
 from firstsafe.primes import is_prime
 
 
 def points_fit(p, thing):
     """True for a tuple of 1 to 8 different numbers from 0 to p."""
-    return tuple_fits(thing, 1, MOST_SHELVES, lambda point: number_between(point, 0, p)) and (
-        len(set(thing)) == len(thing))
+    return numbers_fit(thing, 1, MOST_SHELVES, p) and len(set(thing)) == len(thing)
 
 
 def ground_fault(thing):

@@ -32,3 +32,8 @@ def tuple_fault(thing, least, most, fits):
 def tuple_fits(thing, least, most, fits):
     """True for a tuple of `least` to `most` items that all fit."""
     return tuple_fault(thing, least, most, fits) is None
+
+
+def numbers_fit(thing, least, most, greatest):
+    """True for a tuple of `least` to `most` numbers from 0 to `greatest`."""
+    return tuple_fits(thing, least, most, lambda number: number_between(number, 0, greatest))

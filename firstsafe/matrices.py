@@ -3,6 +3,11 @@
 from firstsafe.primes import inverse
 
 
+def unit(many, place):
+    """Zeros, but a 1 at the place."""
+    return (0,) * place + (1,) + (0,) * (many - place - 1)
+
+
 def first_row(rows, start, column):
     """The index, from `start` on, of the first row with a number other than 0 in the column, or None."""
     for index in range(start, len(rows)):

@@ -7,12 +7,21 @@ from firstsafe.kinds import number_between
 from firstsafe.limits import MOST_CELLS
 
 
+def is_shelf(ground, thing):
+    """True for a number from 0 to the number of shelves less 1."""
+    return number_between(thing, 0, len(ground[2]) - 1)
+
+
+def made_shelf(ground, thing):
+    """The shelf, or BadShelf."""
+    if not is_shelf(ground, thing):
+        raise BadShelf(thing)
+    return thing
+
+
 def point_of(ground, shelf):
     """The point of the shelf, or BadShelf."""
-    points = ground[2]
-    if not number_between(shelf, 0, len(points) - 1):
-        raise BadShelf(shelf)
-    return points[shelf]
+    return ground[2][made_shelf(ground, shelf)]
 
 
 def cell(ground, batch, shelf, j):

@@ -8,11 +8,28 @@ from firstsafe.limits import MOST_BATCHES
 from firstsafe.tapes import made_batch_number, made_weaving
 
 
+def is_told(thing):
+    """True for True and False alone; 1 and 0 are neither."""
+    return thing is True or thing is False
+
+
+def check_rules(many, book, told):
+    """Raises what is wrong with the book for so many shelves or with `told`, in this order."""
+    made_book(many, book)
+    if not is_told(told):
+        raise BadTold(told)
+
+
 def check_manner(ground, book, told):
     """Raises what is wrong with the ground, the book or `told`, in this order."""
-    made_book(shelves(ground), book)
-    if told is not True and told is not False:
-        raise BadTold(told)
+    check_rules(shelves(ground), book, told)
+
+
+def check_written(ground, book, told, weaving, b):
+    """Raises what is wrong with the arguments of a question about one batch, in their order."""
+    check_manner(ground, book, told)
+    made_weaving(ground, weaving)
+    made_batch_number(b)
 
 
 def bounds_of(one, two, told):
@@ -21,12 +38,16 @@ def bounds_of(one, two, told):
     return (gone, greater(one[1], two[1]))
 
 
+def delay_of(bounds):
+    """How many cells must lie behind a cell for it to be in the common head, None if it never is."""
+    gone, wrong = bounds
+    return None if gone is None or wrong is None else gone + wrong
+
+
 def head_length(bounds, many):
     """How many of so many cells are in the common head."""
-    gone, wrong = bounds
-    if gone is None or wrong is None:
-        return 0
-    return max(0, many - gone - wrong)
+    delay = delay_of(bounds)
+    return 0 if delay is None else max(0, many - delay)
 
 
 def heads_of(one, two, told, weaving):
@@ -67,18 +88,14 @@ def reaches(k, heads, weaving, b):
 
 def sums(ground, book, told, weaving, b):
     """The sums of batch b: for each row as P and each row as Q, its number of cells in their common heads."""
-    check_manner(ground, book, told)
-    made_weaving(ground, weaving)
-    made_batch_number(b)
+    check_written(ground, book, told, weaving, b)
     counts = counts_of(weaving, b)
     return tuple([tuple([many_in(heads_of(one, two, told, weaving), counts) for two in book]) for one in book])
 
 
 def safe(ground, book, told, weaving, b):
     """True if batch b is safe."""
-    check_manner(ground, book, told)
-    made_weaving(ground, weaving)
-    made_batch_number(b)
+    check_written(ground, book, told, weaving, b)
     return reaches(ground[1], unlike_heads(book, told, weaving), weaving, b)
 
 

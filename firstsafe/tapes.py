@@ -99,13 +99,26 @@ def written(ground, batches, weaving):
     return tuple([written_tape(ground, batches, shelf, tape) for shelf, tape in enumerate(weaving)])
 
 
+def reading_of(rows):
+    """The reading in which all numbers are those of cells of batch 0."""
+    return tuple([tuple([(0, number) for number in numbers]) for numbers in rows])
+
+
+def cells_by_batch(reading, lengths):
+    """For each batch its cells (shelf, j, number) among the first cells of each shelf, as many as the lengths tell."""
+    found = {}
+    for shelf, cells in enumerate(reading):
+        seen = {}
+        for b, number in cells[:lengths[shelf]]:
+            j = seen.get(b, 0)
+            seen[b] = j + 1
+            found.setdefault(b, []).append((shelf, j, number))
+    return found
+
+
 def cells_of(ground, reading, lengths, b):
     """The cells (shelf, j, number) of batch b among the first cells of each shelf, as many as the lengths tell."""
     made_reading(ground, reading)
     made_lengths(ground, lengths)
     made_batch_number(b)
-    found = []
-    for shelf, cells in enumerate(reading):
-        numbers = [number for c, number in cells[:lengths[shelf]] if c == b]
-        found.extend([(shelf, j, number) for j, number in enumerate(numbers)])
-    return tuple(found)
+    return tuple(cells_by_batch(reading, lengths).get(b, []))

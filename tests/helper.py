@@ -1,7 +1,15 @@
 """What the tests of all modules share."""
 
 import doctest
+import random
+from functools import lru_cache
 from itertools import product
+
+from firstsafe.books import allows
+from firstsafe.grounds import made_batch
+from firstsafe.rows import equation, row
+from firstsafe.stops import made_stop, stopped
+from firstsafe.tapes import cells_of, made_weaving, written
 
 
 def same(case, got, wanted):
@@ -71,3 +79,154 @@ def lengths_of(many, total):
     if many == 0:
         return [()] if total == 0 else []
     return [(first,) + others for first in range(total + 1) for others in lengths_of(many - 1, total - first)]
+
+
+FINE = (0, 0)
+TOLD = (False, True)
+
+
+def head(one, two, told, many):
+    """The length of the common head as [6.1] tells it, of the fates of P and Q on a tape of so many cells."""
+    high = 10 ** 6
+    u, v, other_u, other_v = [high if bound is None else bound for bound in one + two]
+    gone = min(u, other_u) if told else u
+    return max(many - gone - max(v, other_v), 0)
+
+
+def plain_sums(book, told, weaving, b):
+    """The sums as [6.2] tells them."""
+    return tuple(tuple(sum(tape[:head(one[shelf], two[shelf], told, len(tape))].count(b)
+                           for shelf, tape in enumerate(weaving)) for two in book) for one in book)
+
+
+def some_book(chance, many, most):
+    """A book by chance."""
+    return tuple(tuple((chance.choice((0, 0, 1, 2, 5, None)), chance.choice((0, 0, 0, 1, 3, None))) for _ in range(many))
+                 for _ in range(chance.randint(1, most)))
+
+
+def some_weaving(chance, many, most):
+    """A weaving by chance, with many cells of few batches."""
+    return tuple(tuple(chance.choice((0, 0, 1, 7, 63)) for _ in range(chance.randint(0, most))) for _ in range(many))
+
+
+def some_cases(seed, times):
+    """A ground, a book, `told` and a weaving, by chance."""
+    chance = random.Random(seed)
+    for _ in range(times):
+        many = chance.randint(1, 4)
+        ground = (5, chance.randint(1, 4), (0, 5, 2, 1)[:many])
+        yield ground, some_book(chance, many, 5), chance.choice(TOLD), some_weaving(chance, many, 14)
+
+
+@lru_cache(maxsize=None)
+def left(ground, shelf, batches, tape, fate):
+    """All that may lie on the shelf of such a tape behind such a fate."""
+    rows = [row(ground, batch, shelf, 8) for batch in batches]
+    cells = [(b, rows[b][tape[:at].count(b)]) for at, b in enumerate(tape)]
+    found = set()
+    for gone in range(0, len(cells) + 1 if fate[0] is None else min(fate[0], len(cells)) + 1):
+        rest = cells[:len(cells) - gone]
+        for many in range(0, len(rest) + 1 if fate[1] is None else min(fate[1], len(rest)) + 1):
+            for wrong in product(product(range(len(batches)), range(ground[0])), repeat=many):
+                found.add(tuple(rest[:len(rest) - many]) + wrong)
+    return frozenset(found)
+
+
+@lru_cache(maxsize=None)
+def left_of_any(ground, shelf, batches, fate, longest):
+    """All that may lie on the shelf behind such a fate, of whatever tape."""
+    tapes = [tape for many in range(longest + 1) for tape in product(range(len(batches)), repeat=many)]
+    return frozenset().union(*[left(ground, shelf, batches, tape, fate) for tape in tapes])
+
+
+def some_stop(chance, ground, fates, reading):
+    """A stop of the reading that the row allows, by chance."""
+    stop = []
+    for (u, v), cells in zip(fates, reading):
+        gone = chance.randint(0, len(cells) if u is None else min(u, len(cells)))
+        rest = len(cells) - gone
+        many = chance.randint(0, rest if v is None else min(v, rest))
+        stop.append((gone, tuple((chance.choice((0, 0, 1)), chance.randrange(ground[0])) for _ in range(many))))
+    return tuple(stop)
+
+
+def some_readings(seed, times):
+    """As `some_cases`, and besides some batches and what a stop that the book allows leaves of them."""
+    chance = random.Random(seed)
+    for ground, book, told, weaving in some_cases(seed, times):
+        p, k, _ = ground
+        batches = tuple(tuple(chance.randrange(p) for _ in range(k)) for _ in range(64))
+        reading = written(ground, batches, weaving)
+        yield ground, book, told, weaving, batches, stopped(
+            ground, reading, some_stop(chance, ground, chance.choice(book), reading))
+
+
+def check_doubt(case, ground, book, told, weaving, b, thing):
+    """The thing is a doubt of batch b by the words of [6.5]."""
+    case.assertIs(type(thing), tuple)
+    i, j, one, two, first, second, other = thing
+    for index in (i, j):
+        case.assertTrue(type(index) is int and 0 <= index < len(book))
+    made_batch(ground, one)
+    made_batch(ground, two)
+    case.assertNotEqual(one, two)
+    made_stop(ground, first)
+    made_stop(ground, second)
+    made_weaving(ground, other)
+    if told:
+        same(case, other, weaving)
+    case.assertTrue(allows(book[i], first))
+    case.assertTrue(allows(book[j], second))
+    zeros = ((0,) * ground[1],) * 64
+    # `stopped` refuses a stop for which a tape is too short.
+    world = stopped(ground, written(ground, zeros[:b] + (one,) + zeros[b + 1:], weaving), first)
+    other_world = stopped(ground, written(ground, zeros[:b] + (two,) + zeros[b + 1:], other), second)
+    same(case, world, other_world)
+
+
+def heads_right(fates, reading):
+    """The lengths of the right heads, by the words of [7.1]."""
+    return tuple(0 if v is None else max(0, len(cells) - v) for (_, v), cells in zip(fates, reading))
+
+
+def is_far_at(fates, stand, reading, shelf):
+    """True if the second condition of [7.1] fails at the shelf."""
+    n, m, (u, _) = len(stand[shelf]), len(reading[shelf]), fates[shelf]
+    right = heads_right(fates, reading)[shelf]
+    return not (m <= n and (u is None or m >= n - u) and
+                all(c == stand[shelf][at] for at, (c, _) in enumerate(reading[shelf][:right])))
+
+
+def factors_give(ground, cells, factors):
+    """The sums of the weights and of the right sides of the cells' equations, each times its factor, or None."""
+    p, k, _ = ground
+    if type(factors) is not tuple or len(factors) != len(cells):
+        return None
+    if not all(type(factor) is int and 0 <= factor < p for factor in factors):
+        return None
+    lines = [equation(ground, shelf, j) + (number,) for shelf, j, number in cells]
+    return tuple(sum(factor * line[t] for factor, line in zip(factors, lines)) % p for t in range(k + 1))
+
+
+def entry_is_right(ground, fates, stand, reading, b, batch, entry):
+    """True if the entry of a paper is right by the words of [7.3]; its tuples may have any items."""
+    k, lengths = ground[1], heads_right(fates, reading)
+    if len(entry) == 2 and entry[0] == "is":
+        cells = cells_of(ground, reading, lengths, b)
+        return type(entry[1]) is tuple and len(entry[1]) == k and all(
+            factors_give(ground, cells, factors) == tuple(int(place == t) for place in range(k)) + (batch[t],)
+            for t, factors in enumerate(entry[1]))
+    if len(entry) == 3 and entry[0] == "no" and type(entry[1]) is int and 0 <= entry[1] < 64:
+        total = factors_give(ground, cells_of(ground, reading, lengths, entry[1]), entry[2])
+        return total is not None and not any(total[:k]) and total[k] != 0
+    if len(entry) == 2 and entry[0] == "far" and type(entry[1]) is int and 0 <= entry[1] < len(reading):
+        return stand is not None and is_far_at(fates, stand, reading, entry[1])
+    return False
+
+
+def paper_is_right(ground, book, stand, reading, b, batch, paper):
+    """True if the paper is right by the words of [7.3]."""
+    return type(paper) is tuple and len(paper) == len(book) and all(
+        type(entry) is tuple and entry_is_right(ground, fates, stand, reading, b, batch, entry)
+        for fates, entry in zip(book, paper)) and any(entry[0] == "is" for entry in paper)

@@ -2,51 +2,13 @@
 
 import random
 import unittest
-from functools import lru_cache
 from itertools import product
 
 from firstsafe.bookwords import read_book
 from firstsafe.errors import BadBook, BadGround, BadNumber, BadTold, BadWeaving, TooMany
-from firstsafe.rows import row
 from firstsafe.safety import bearable, done, safe, sums
-from tests.helper import NO_NUMBERS, batches_of, refuses, runs_as_shown, same
-
-FINE = (0, 0)
-TOLD = (False, True)
-
-
-def head(one, two, told, many):
-    """The length of the common head as [6.1] tells it, of the fates of P and Q on a tape of so many cells."""
-    high = 10 ** 6
-    u, v, other_u, other_v = [high if bound is None else bound for bound in one + two]
-    gone = min(u, other_u) if told else u
-    return max(many - gone - max(v, other_v), 0)
-
-
-def plain_sums(book, told, weaving, b):
-    """The sums as [6.2] tells them."""
-    return tuple(tuple(sum(tape[:head(one[shelf], two[shelf], told, len(tape))].count(b)
-                           for shelf, tape in enumerate(weaving)) for two in book) for one in book)
-
-
-def some_book(chance, many, most):
-    """A book by chance."""
-    return tuple(tuple((chance.choice((0, 0, 1, 2, 5, None)), chance.choice((0, 0, 0, 1, 3, None))) for _ in range(many))
-                 for _ in range(chance.randint(1, most)))
-
-
-def some_weaving(chance, many, most):
-    """A weaving by chance, with many cells of few batches."""
-    return tuple(tuple(chance.choice((0, 0, 1, 7, 63)) for _ in range(chance.randint(0, most))) for _ in range(many))
-
-
-def some_cases(seed, times):
-    """A ground, a book, `told` and a weaving, by chance."""
-    chance = random.Random(seed)
-    for _ in range(times):
-        many = chance.randint(1, 4)
-        ground = (5, chance.randint(1, 4), (0, 5, 2, 1)[:many])
-        yield ground, some_book(chance, many, 5), chance.choice(TOLD), some_weaving(chance, many, 14)
+from tests.helper import (
+    FINE, NO_NUMBERS, TOLD, batches_of, left, left_of_any, plain_sums, refuses, runs_as_shown, same, some_cases)
 
 
 class Sums(unittest.TestCase):
@@ -245,27 +207,6 @@ class Worlds(unittest.TestCase):
     All worlds of tiny grounds are tried: batches 0 and 1, and stops and weavings that a row allows.
     """
 
-    @staticmethod
-    @lru_cache(maxsize=None)
-    def left(ground, shelf, batches, tape, fate):
-        """All that may lie on the shelf of such a tape behind such a fate."""
-        rows = [row(ground, batch, shelf, 8) for batch in batches]
-        cells = [(b, rows[b][tape[:at].count(b)]) for at, b in enumerate(tape)]
-        found = set()
-        for gone in range(0, len(cells) + 1 if fate[0] is None else min(fate[0], len(cells)) + 1):
-            rest = cells[:len(cells) - gone]
-            for many in range(0, len(rest) + 1 if fate[1] is None else min(fate[1], len(rest)) + 1):
-                for wrong in product(product(range(len(batches)), range(ground[0])), repeat=many):
-                    found.add(tuple(rest[:len(rest) - many]) + wrong)
-        return frozenset(found)
-
-    @staticmethod
-    @lru_cache(maxsize=None)
-    def left_of_any(ground, shelf, batches, fate, longest):
-        """All that may lie on the shelf behind such a fate, of whatever tape."""
-        tapes = [tape for many in range(longest + 1) for tape in product(range(len(batches)), repeat=many)]
-        return frozenset().union(*[Worlds.left(ground, shelf, batches, tape, fate) for tape in tapes])
-
     def told_apart(self, ground, book, told, weaving, b):
         """True if no reading is left by two worlds with unlike batches b."""
         worlds = list(product(batches_of(ground[0], ground[1]), repeat=2))
@@ -273,11 +214,11 @@ class Worlds(unittest.TestCase):
             if batches[b] == others[b]:
                 continue
             for shelf, tape in enumerate(weaving):
-                first = self.left(ground, shelf, batches, tape, one[shelf])
+                first = left(ground, shelf, batches, tape, one[shelf])
                 if told:
-                    second = self.left(ground, shelf, others, tape, two[shelf])
+                    second = left(ground, shelf, others, tape, two[shelf])
                 else:
-                    second = self.left_of_any(ground, shelf, others, two[shelf], len(tape) + (two[shelf][0] or 0))
+                    second = left_of_any(ground, shelf, others, two[shelf], len(tape) + (two[shelf][0] or 0))
                 if not first & second:
                     break
             else:
