@@ -32,7 +32,7 @@ class Clerk:
 
     def done(self):
         """The numbers of all safe batches, ascending."""
-        return tuple([b for b in range(MOST_BATCHES) if self.tally.is_safe(b)])
+        return tuple([b for b in range(MOST_BATCHES) if self.tally.reports_safe(b)])
 
     def change(self, book):
         """Exchanges the book; the batches that were safe before and are not now."""
@@ -51,4 +51,4 @@ class Clerk:
         self.rules = book
         self.tally = Tally(self.ground, book, False)
         self.tally.write_all(weaving)
-        return tuple([b for b in before if not self.tally.is_safe(b)])
+        return tuple([b for b in before if not self.tally.reports_safe(b)])

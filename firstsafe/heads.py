@@ -11,7 +11,7 @@ def right_lengths(row, reading):
     return tuple([head_length((0, v), len(cells)) for (_, v), cells in zip(row, reading)])
 
 
-def is_far(fate, stood, cells):
+def far_from(fate, stood, cells):
     """True if such cells cannot be left of a tape that stood so, whatever the fate did to it."""
     u, v = fate
     if len(cells) > len(stood) or (u is not None and len(cells) < len(stood) - u):
@@ -28,7 +28,7 @@ def far_shelf(row, stand, reading):
     if stand is None:
         return None
     for shelf, fate in enumerate(row):
-        if is_far(fate, stand[shelf], reading[shelf]):
+        if far_from(fate, stand[shelf], reading[shelf]):
             return shelf
     return None
 

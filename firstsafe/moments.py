@@ -4,7 +4,7 @@ from firstsafe.errors import BadEvents, BadNumber
 from firstsafe.grounds import made_ground
 from firstsafe.kinds import is_pair, number_between
 from firstsafe.limits import MOST_CELLS, MOST_EVENTS
-from firstsafe.rows import is_shelf
+from firstsafe.rows import shelf_fits
 from firstsafe.safety import check_manner
 from firstsafe.tally import Tally
 from firstsafe.tapes import is_batch_number
@@ -12,7 +12,7 @@ from firstsafe.tapes import is_batch_number
 
 def event_fits(ground, thing):
     """True for a pair of a shelf of the ground and a batch number."""
-    return is_pair(thing) and is_shelf(ground, thing[0]) and is_batch_number(thing[1])
+    return is_pair(thing) and shelf_fits(ground, thing[0]) and is_batch_number(thing[1])
 
 
 def events_fault(ground, thing):

@@ -7,14 +7,14 @@ from firstsafe.kinds import number_between
 from firstsafe.limits import MOST_CELLS
 
 
-def is_shelf(ground, thing):
+def shelf_fits(ground, thing):
     """True for a number from 0 to the number of shelves less 1."""
     return number_between(thing, 0, len(ground[2]) - 1)
 
 
 def made_shelf(ground, thing):
     """The shelf, or BadShelf."""
-    if not is_shelf(ground, thing):
+    if not shelf_fits(ground, thing):
         raise BadShelf(thing)
     return thing
 

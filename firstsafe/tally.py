@@ -50,7 +50,7 @@ class Tally:
             for b in tape:
                 self.write(shelf, b)
 
-    def is_safe(self, b):
+    def reports_safe(self, b):
         """True if batch b is safe."""
         return self.lacking[b] == 0
 

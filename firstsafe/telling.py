@@ -31,11 +31,9 @@ def unit_factors(p, k, equations):
 def clash_factors(p, k, equations):
     """Factors with which the weights of the equations sum up to zeros, but the right sides don't; None if none do.
 
-    The first k equations determine a batch ([0.3] (a)). If it does not keep another one, the weights of that one less
-    their combination of the first k are such a sum.
+    There always is a batch that keeps the first k equations ([0.3] (a)). If it does not keep another one, the weights
+    of that one are a combination of those of the first k; the difference of both is such a sum.
     """
-    if len(equations) <= k:
-        return None
     batch, _ = solved(p, k, equations[:k])
     for index, (weights, right) in enumerate(equations):
         if not keeps(p, batch, weights, right):

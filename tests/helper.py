@@ -6,6 +6,7 @@ from functools import lru_cache
 from itertools import product
 
 from firstsafe.books import allows
+from firstsafe.forms import value
 from firstsafe.grounds import made_batch
 from firstsafe.rows import equation, row
 from firstsafe.stops import made_stop, stopped
@@ -58,6 +59,43 @@ def spoiled(thing, more=(None,)):
     for index, item in enumerate(thing):
         for wrong in spoiled(item, more):
             yield thing[:index] + (wrong,) + thing[index + 1:]
+
+
+def bent(thing):
+    """The thing with one part of it changed into another one of the same kind."""
+    if isinstance(thing, str):
+        yield from [word for word in ("is", "no", "far", "") if word != thing]
+    elif isinstance(thing, tuple):
+        if thing:
+            yield thing[:-1]
+            yield thing + thing[-1:]
+        for at in range(1, len(thing)):
+            if thing[at - 1] != thing[at]:
+                yield thing[:at - 1] + (thing[at], thing[at - 1]) + thing[at + 1:]
+        for at, item in enumerate(thing):
+            for other in bent(item):
+                yield thing[:at] + (other,) + thing[at + 1:]
+    else:
+        yield thing + 1
+        yield thing - 1
+
+
+def judged(case, judge, arguments, at, wanted):
+    """What the judge says of each bent form of the argument number `at`; `wanted` tells what it should say."""
+    said = {True: 0, False: 0}
+    for other in bent(arguments[at]):
+        answer = judge(*arguments[:at], other, *arguments[at + 1:])
+        same(case, answer, wanted(other))
+        said[answer] += 1
+    return said
+
+
+def judged_false(case, judge, arguments, wrong):
+    """The judge says False of each wrong form of each argument; `wrong` has them for each argument."""
+    same(case, judge(*arguments), True)
+    for at, things in enumerate(wrong):
+        for thing in things:
+            same(case, judge(*arguments[:at], thing, *arguments[at + 1:]), False)
 
 
 def runs_as_shown(case, text):
@@ -230,3 +268,70 @@ def paper_is_right(ground, book, stand, reading, b, batch, paper):
     return type(paper) is tuple and len(paper) == len(book) and all(
         type(entry) is tuple and entry_is_right(ground, fates, stand, reading, b, batch, entry)
         for fates, entry in zip(book, paper)) and any(entry[0] == "is" for entry in paper)
+
+
+def torn_cells(ground, batch, rows):
+    """How many cells are torn for the batch, by the words of [8.1]."""
+    total = 0
+    for shelf, numbers in enumerate(rows):
+        right = row(ground, batch, shelf, len(numbers))
+        differ = [j for j in range(len(numbers)) if numbers[j] != right[j]]
+        total += len(numbers) - differ[0] if differ else 0
+    return total
+
+
+def few_torn(ground, rows, w):
+    """All batches for which at most w cells are torn."""
+    return [batch for batch in batches_of(ground[0], ground[1]) if torn_cells(ground, batch, rows) <= w]
+
+
+def torn_rows(chance, ground, batch, lengths, most):
+    """Rows of these lengths of which about so many last cells of the batch's rows hold anything."""
+    rows = [list(row(ground, batch, shelf, length)) for shelf, length in enumerate(lengths)]
+    for _ in range(most):
+        shelf = chance.randrange(len(rows))
+        cut = chance.randint(0, min(most, len(rows[shelf])))
+        rows[shelf][len(rows[shelf]) - cut:] = [chance.randrange(ground[0]) for _ in range(cut)]
+        most -= cut
+    return tuple(map(tuple, rows))
+
+
+def is_locator(ground, rows, w, E, F):
+    """True if E and F are a locator by the words of [8.4]."""
+    p, k, points = ground
+    if len(E) != w + 1 or len(F) != w + k or not any(E) or not all(0 <= number < p for number in E + F):
+        return False
+    return all(value(p, F, point, j) == sum(value(p, E, point, i) * numbers[j - i] for i in range(j + 1)) % p
+               for point, numbers in zip(points, rows) for j in range(len(numbers)))
+
+
+def equal_batches(laying, lengths, x, y):
+    """True if two batches of the laying are equal in the first columns of these lengths."""
+    return all(column[x] == column[y] for columns, length in zip(laying[2], lengths) for column in columns[:length])
+
+
+def laying_heads(laying, one, two, told):
+    """The lengths of the common heads of two rows of a book at the shelves of a laying."""
+    return [head(fate, other, told, len(columns)) for fate, other, columns in zip(one, two, laying[2])]
+
+
+def some_laying(chance, q, k, shelves, most):
+    """A laying by chance, whose columns often hold what a number of the batch tells."""
+    many = q ** k
+    tables = []
+    for _ in range(shelves):
+        columns = []
+        for _ in range(chance.randint(0, most)):
+            place, turn = chance.randrange(k), chance.randrange(q)
+            numbers = [(x // q ** place + turn) % q for x in range(many)]
+            if chance.random() < 0.4:
+                numbers[chance.randrange(many)] = chance.randrange(q)
+            columns.append(tuple(numbers))
+        tables.append(tuple(columns))
+    return (q, k, tuple(tables))
+
+
+def some_fates(chance, shelves, most):
+    """A small book by chance, for few cells on each shelf."""
+    return tuple(tuple((chance.choice((0, 0, 0, 1, 2, None)), chance.choice((0, 0, 0, 0, 1, None)))
+                       for _ in range(shelves)) for _ in range(chance.randint(1, most)))
