@@ -1,7 +1,7 @@
 """Names of shelves, and the words that are no names ([5])."""
 
 from firstsafe.errors import BadNames
-from firstsafe.kinds import tuple_fault
+from firstsafe.kinds import unlike_tuple_fault
 from firstsafe.limits import MOST_NAME, MOST_SHELVES
 
 LETTERS = "abcdefghijklmnopqrstuvwxyz"
@@ -16,21 +16,9 @@ def is_shelf_name(thing):
     return thing[0] in LETTERS and all([sign in LETTERS or sign in FIGURES for sign in thing])
 
 
-def names_fault(thing):
-    """What BadNames is to tell of the thing, None for names of shelves."""
-    fault = tuple_fault(thing, 1, MOST_SHELVES, is_shelf_name)
-    if fault == -1:
-        return -1
-    right = thing if fault is None else thing[:fault]
-    for index, name in enumerate(right):
-        if name in right[:index]:
-            return index
-    return fault
-
-
 def made_names(thing):
     """The names of shelves, or BadNames."""
-    fault = names_fault(thing)
+    fault = unlike_tuple_fault(thing, 1, MOST_SHELVES, is_shelf_name)
     if fault is not None:
         raise BadNames(fault)
     return thing

@@ -6,6 +6,7 @@ from firstsafe.booknames import FIGURES, LETTERS, is_shelf_name, made_names
 from firstsafe.bounds import greater
 from firstsafe.errors import BadNumber, BadText, NoName, TooMany, Twice
 from firstsafe.limits import MOST_FATE, MOST_ROWS, MOST_SIGNS
+from firstsafe.textnumbers import reads_as_number
 
 NOTHING = (0, 0)
 
@@ -44,13 +45,6 @@ def words_of(text):
         place = end
     found.append((len(text), ""))
     return found
-
-
-def reads_as_number(word):
-    """True for a word of figures alone without a leading zero."""
-    if not word or not all([sign in FIGURES for sign in word]):
-        return False
-    return word == "0" or word[0] != "0"
 
 
 def choices_of(places, many):

@@ -29,6 +29,18 @@ def tuple_fault(thing, least, most, fits):
     return None
 
 
+def unlike_tuple_fault(thing, least, most, fits):
+    """As `tuple_fault`, and an item does not fit either if it equals an earlier one."""
+    fault = tuple_fault(thing, least, most, fits)
+    if fault == -1:
+        return -1
+    right = thing if fault is None else thing[:fault]
+    for index, item in enumerate(right):
+        if item in right[:index]:
+            return index
+    return fault
+
+
 def tuple_fits(thing, least, most, fits):
     """True for a tuple of `least` to `most` items that all fit."""
     return tuple_fault(thing, least, most, fits) is None

@@ -335,3 +335,68 @@ def some_fates(chance, shelves, most):
     """A small book by chance, for few cells on each shelf."""
     return tuple(tuple((chance.choice((0, 0, 0, 1, 2, None)), chance.choice((0, 0, 0, 0, 1, None)))
                        for _ in range(shelves)) for _ in range(chance.randint(1, most)))
+
+
+def signs_changed(text, signs):
+    """The text with one sign left out, doubled, put in or exchanged for one of the signs."""
+    for at in range(len(text)):
+        yield text[:at] + text[at + 1:]
+        yield text[:at] + text[at] + text[at:]
+        for sign in signs:
+            if sign != text[at]:
+                yield text[:at] + sign + text[at + 1:]
+    for at in range(len(text) + 1):
+        for sign in signs:
+            yield text[:at] + sign + text[at:]
+
+
+def tapes_on(device):
+    """All tapes of the device that have cells."""
+    return tuple((volume, point, device.tape(volume, point)) for volume in device.volumes() for point in device.points()
+                 if device.tape(volume, point))
+
+
+SIGNS = "abcdefghijklmnopqrstuvwxyz0123456789"
+
+
+def some_name(chance):
+    """A name of the store by chance, often one of a few."""
+    if chance.random() < 0.6:
+        return chance.choice(("a", "b", "ba", "b9", "z", "0", "9", "99", "999999"))
+    return "".join(chance.choice(SIGNS) for _ in range(chance.randint(1, 6)))
+
+
+def some_row(chance, p):
+    """A row of the store by chance."""
+    return tuple(chance.choice((0, 1, 35, p - 1, chance.randrange(p))) for _ in range(chance.choice((0, 0, 1, 2, 3, 5))))
+
+
+def some_state(chance, p, most):
+    """A state by chance."""
+    names = {some_name(chance) for _ in range(chance.randint(0, most))}
+    return tuple((name, some_row(chance, p)) for name in sorted(names, key=lambda name: [SIGNS.index(sign) for sign in name]))
+
+
+def figures_changed(figures, others):
+    """The figures with one of them left out, doubled or exchanged for another one."""
+    for at in range(len(figures)):
+        yield figures[:at] + figures[at + 1:]
+        yield figures[:at + 1] + figures[at:]
+        for other in set(others) | {figures[at] - 1, figures[at] + 1}:
+            if other != figures[at]:
+                yield figures[:at] + (other,) + figures[at + 1:]
+
+
+def some_deed(chance, p):
+    """A deed by chance."""
+    word = chance.choice(("put", "put", "put", "drop", "move", "swap"))
+    if word == "put":
+        return (word, some_name(chance), some_row(chance, p))
+    if word == "drop":
+        return (word, some_name(chance))
+    return (word, some_name(chance), some_name(chance))
+
+
+def some_group(chance, p, most):
+    """A group by chance."""
+    return tuple(some_deed(chance, p) for _ in range(chance.randint(1, most)))
