@@ -78,7 +78,7 @@ class BookReader:
     """Reads the words of a text from the left to the right."""
 
     def __init__(self, names, text):
-        self.names = names
+        self.shelf_names = names
         self.words = words_of(text)
         self.at = 0
 
@@ -114,7 +114,7 @@ class BookReader:
 
     def clause(self):
         """CLAUSE: its unlike rows."""
-        rows = [(NOTHING,) * len(self.names)]
+        rows = [(NOTHING,) * len(self.shelf_names)]
         if self.taken("nothing"):
             return rows
         rows = self.part(rows)
@@ -159,9 +159,9 @@ class BookReader:
         if not self.taken("any"):
             return [self.shelves()]
         place = self.here()
-        many = self.number(1, len(self.names))
+        many = self.number(1, len(self.shelf_names))
         if not self.taken("of"):
-            return choices_of(list(range(len(self.names))), many)
+            return choices_of(list(range(len(self.shelf_names))), many)
         among = self.shelves()
         if many > len(among):
             raise BadNumber(place)
@@ -179,9 +179,9 @@ class BookReader:
         place, word = self.words[self.at]
         if not is_shelf_name(word):
             raise BadText(place)
-        if word not in self.names:
+        if word not in self.shelf_names:
             raise NoName(place)
-        shelf = self.names.index(word)
+        shelf = self.shelf_names.index(word)
         if shelf in earlier:
             raise Twice(place)
         self.at += 1

@@ -81,7 +81,7 @@ class FigureReader:
         return self.at == len(self.figures)
 
     def figure(self, least, most):
-        """The next figure, from `least` to `most`; behind the last one, BadFigures tells how many figures there are."""
+        """The next figure, from `least` to `most`; at the end, BadFigures tells how many figures there are."""
         if self.ended() or not number_between(self.figures[self.at], least, most):
             raise BadFigures(self.at)
         self.at += 1

@@ -1,5 +1,7 @@
 """What a batch of a volume is: an image batch, the closing batch or a log batch ([14])."""
 
+from firstsafe.errors import TooGreat
+from firstsafe.figures import image
 from firstsafe.kinds import number_between, numbers_fit
 from firstsafe.limits import LEAST_STORE_NUMBERS, MOST_IMAGES, MOST_NUMBERS, MOST_PRIME
 
@@ -44,6 +46,14 @@ def cut(k, kind, figures):
         part = figures[start:start + room]
         found.append((kind, len(part)) + part + (0,) * (room - len(part)))
     return tuple(found)
+
+
+def image_figures(k, state):
+    """The figures of a state that is written into a volume, or TooGreat."""
+    figures = image(state)
+    if len(figures) > MOST_IMAGES * (k - 2):
+        raise TooGreat(len(figures))
+    return figures
 
 
 def closing(k, many):

@@ -29,7 +29,7 @@ class Shelves:
         self.shelf_points = points
         # A list of cells for each pair (volume, point) whose tape is not empty.
         self.written = {}
-        # How many Moves have been made on this device; the newest one alone may write.
+        # How many Moves have been made on this device; all but the last one have been left ([15]).
         self.moves = 0
 
     def points(self):
@@ -39,8 +39,13 @@ class Shelves:
     def check_tape(self, volume, point):
         """Raises what is wrong with the volume or the point, in this order."""
         made_volume(volume)
-        if not is_point(point) or point not in self.shelf_points:
-            raise BadPoint(point)
+        self.check_points((point,))
+
+    def check_points(self, wanted):
+        """BadPoint for the first of the points that no shelf has."""
+        for point in wanted:
+            if not is_point(point) or point not in self.shelf_points:
+                raise BadPoint(point)
 
     def tape(self, volume, point):
         """The cells of the tape."""
@@ -76,6 +81,19 @@ class Shelves:
     def volumes(self):
         """The volumes that lie, ascending."""
         return tuple(sorted(set([volume for volume, _ in self.written])))
+
+    def held(self):
+        """The pairs (volume, point) of all tapes that have cells, ascending."""
+        return tuple(sorted(list(self.written)))
+
+    def next_volume(self):
+        """The number of a new volume: one more than the greatest one that lies."""
+        return max(self.volumes(), default=-1) + 1
+
+    def new_turn(self):
+        """Leaves the Moves that have been made so far; the number of the new one."""
+        self.moves += 1
+        return self.moves
 
     def reading(self, volume, ground):
         """The reading of the volume on the shelves of the ground; numbers of p and more give their remainders."""

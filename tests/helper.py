@@ -6,8 +6,11 @@ from functools import lru_cache
 from itertools import product
 
 from firstsafe.books import allows
+from firstsafe.charters import is_charter
+from firstsafe.figures import image
 from firstsafe.forms import value
 from firstsafe.grounds import made_batch
+from firstsafe.moves import Move
 from firstsafe.rows import equation, row
 from firstsafe.stops import made_stop, stopped
 from firstsafe.tapes import cells_of, made_weaving, written
@@ -377,6 +380,15 @@ def some_state(chance, p, most):
     return tuple((name, some_row(chance, p)) for name in sorted(names, key=lambda name: [SIGNS.index(sign) for sign in name]))
 
 
+def state_with(many):
+    """A state with just so many figures, 0 or at least 3."""
+    state = ()
+    while len(image(state)) < many:
+        rest = many - len(image(state))
+        state += ((SIGNS[len(state)], (7,) * ((rest if rest <= 43 else min(43, rest - 3)) - 3)),)
+    return state
+
+
 def figures_changed(figures, others):
     """The figures with one of them left out, doubled or exchanged for another one."""
     for at in range(len(figures)):
@@ -400,3 +412,91 @@ def some_deed(chance, p):
 def some_group(chance, p, most):
     """A group by chance."""
     return tuple(some_deed(chance, p) for _ in range(chance.randint(1, most)))
+
+
+# A book that loses any one of three shelves, or nothing.
+LOSE_ANY = (((0, 0),) * 3, ((None, 0), FINE, FINE), (FINE, (None, 0), FINE), (FINE, FINE, (None, 0)))
+CHARTER = ((41, 3, (0, 1, 2)), LOSE_ANY)
+
+
+def some_charter(chance, points, k, most):
+    """A charter by chance, for some of the points."""
+    while True:
+        many = chance.randint(1, len(points))
+        book = tuple(tuple((chance.choice((0, 0, 0, 1, 3, None)), chance.choice((0, 0, 0, 1, 2, None))) for _ in range(many))
+                     for _ in range(chance.randint(1, most)))
+        charter = ((41, k, tuple(chance.sample(points, many))), book)
+        if is_charter(charter):
+            return charter
+
+
+class PlainVolume:
+    """What a Move or Store writes into a volume, reckoned anew from the words of [15.1] each time."""
+
+    def __init__(self, charter, batches):
+        self.ground, self.book = charter
+        self.batches = list(batches)
+        self.tapes = {point: [] for point in self.ground[2]}
+        self.left_alone = set()
+
+    def weaving(self):
+        """The weaving of all cells that were written."""
+        return tuple(tuple(b for b, _ in self.tapes[point]) for point in self.ground[2])
+
+    def is_safe(self, b):
+        """True if batch b is safe."""
+        return min(map(min, plain_sums(self.book, False, self.weaving(), b))) >= self.ground[1]
+
+    def safe_many(self):
+        """The least number that is not a safe batch."""
+        return next((b for b in range(64) if not self.is_safe(b)), 64)
+
+    def spare(self, point, unsafe):
+        """How many spare cells lie on the tape, and how many there may be at the most."""
+        shelf = self.ground[2].index(point)
+        entries = [b for b, _ in self.tapes[point]]
+        last = max([at for at, entry in enumerate(entries) if entry in unsafe
+                    and entries[:at].count(entry) == self.ground[1] - 1])
+        most = sum(max([row[shelf][part] for row in self.book if row[shelf][part] is not None], default=0) for part in (0, 1))
+        return len(entries) - 1 - last, most
+
+    def next_cell(self, point):
+        """The cell that the shelf writes next, None if it writes nothing."""
+        tape = self.tapes[point]
+        if point in self.left_alone or len(tape) == 1024:
+            return None
+        unsafe = [b for b in range(len(self.batches)) if not self.is_safe(b)]
+        for b in unsafe:
+            j = [entry for entry, _ in tape].count(b)
+            if j < self.ground[1]:
+                return (b, row(self.ground, self.batches[b], self.ground[2].index(point), 64)[j])
+        if not unsafe:
+            return None
+        spare, most = self.spare(point, unsafe)
+        return (unsafe[0], 0) if spare < most else None
+
+    def write(self, point):
+        """The cell that the shelf writes; it stands on the tape then."""
+        made = self.next_cell(point)
+        if made is not None:
+            self.tapes[point].append(made)
+        return made
+
+
+def write_all(writer, points, times=None):
+    """Lets the shelves write in turn, until none of them writes any more or so many times; all cells written."""
+    cells = []
+    while times is None or times > 0:
+        made = [(point, writer.write(point)) for point in points]
+        cells += [(point, cell) for point, cell in made if cell is not None]
+        if all(cell is None for _, cell in made):
+            return cells
+        times = None if times is None else times - 1
+    return cells
+
+
+def whole_store(device, charter=CHARTER, state=(), volume=0):
+    """A Store of the state in a new volume."""
+    move = Move(device, volume, charter, state)
+    write_all(move, charter[0][2])
+    return move.store()

@@ -190,6 +190,33 @@ class Language(unittest.TestCase):
             self.assertIsNone(BARRED_WORDS.search(code))
             self.assertNotRegex(code, r"\btype\b")
 
+    def test_attributes_and_methods(self):
+        """L18: what is assigned to an object is no method, here not even one of another class."""
+        methods, attributes = set(), set()
+        for _, tree in TREES:
+            for node in ast.walk(tree):
+                if isinstance(node, ast.ClassDef):
+                    methods |= {part.name for part in node.body if isinstance(part, ast.FunctionDef)}
+                if isinstance(node, ast.Attribute) and not isinstance(node.ctx, ast.Load):
+                    attributes.add(node.attr)
+        self.assertEqual(methods & attributes, set())
+        read = {node.attr for _, tree in TREES for node in ast.walk(tree) if isinstance(node, ast.Attribute)}
+        self.assertEqual(read - attributes - methods - METHODS, {"__class__", "__init__", "__name__"} & read)
+
+    def test_handlers(self):
+        """L19: only own errors are caught, and an error that is named is only asked."""
+        for _, tree in TREES:
+            own = [name for module, name in imports_of(tree) if module == "firstsafe.errors"]
+            for node in ast.walk(tree):
+                if not isinstance(node, ast.ExceptHandler):
+                    continue
+                names = node.type.elts if isinstance(node.type, ast.Tuple) else [node.type]
+                self.assertLessEqual({name.id for name in names}, set(own))
+                asked = [part.value for part in ast.walk(node) if isinstance(part, ast.Attribute) and part.attr != "args"]
+                for part in ast.walk(node):
+                    if isinstance(part, ast.Name) and part.id == node.name:
+                        self.assertIn(part, asked)
+
     def test_sets_and_generators(self):
         """L23, L24."""
         for _, tree in TREES:
