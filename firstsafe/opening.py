@@ -18,12 +18,12 @@ class Volume:
         ground, book = charter
         self.volume_number = number
         self.ground = ground
-        self.heads = possible_heads(ground, book, None, device.reading(number, ground))
+        heads = possible_heads(ground, book, None, device.reading(number, ground))
         self.batches = []
         # The answer for the first batch that is not told.
         self.untold = None
         while self.untold is None and len(self.batches) < MOST_BATCHES:
-            answer = answer_for(ground, self.heads, len(self.batches))
+            answer = answer_for(ground, heads, len(self.batches))
             if answer[0] == "told":
                 self.batches.append(answer[1])
             else:
